@@ -1,0 +1,1 @@
+"""Ways over land that arise, lapse, and fall away for good."""
