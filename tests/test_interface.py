@@ -8,7 +8,8 @@ EMPTY = inspect.Parameter.empty
 BY_PLACE = inspect.Parameter.POSITIONAL_OR_KEYWORD
 BY_NAME = inspect.Parameter.KEYWORD_ONLY
 
-# File, name, arguments by place or name, those by name alone with what they have if left out.
+# File, name, arguments by place or name with what those have that may be left
+# out, and likewise those by name alone.
 FUNCTIONS = [
     ("stretches", "is_stretch", ["thing"], {}),
     ("stretches", "least", ["stretches"], {}),
@@ -24,7 +25,26 @@ FUNCTIONS = [
     ("errors", "NoHand", ["name"], {}),
     ("errors", "TooMany", ["most"], {}),
     ("errors", "Unlike", [], {}),
+    ("deeds", "look_deed", ["land", "thing"], {}),
+    ("book", "Book", ["land", ("told", ())], {"back": ()}),
+    ("texts", "show_deed", ["deed"], {}),
+    ("texts", "read_deed", ["text"], {}),
 ]
+
+# File, class, method, arguments, all by place or name.
+METHODS = [
+    ("land", "Land", ["cells", "hand", "grow", "lapse", "roads"], []),
+    ("book", "Book", ["tell", "take_back"], ["deed"]),
+    ("book", "Book", ["told", "back", "deeds", "land", "copy"], []),
+    ("book", "Book", ["stands"], ["thing"]),
+    ("book", "Book", ["merged"], ["other"]),
+]
+
+
+def arguments(call):
+    """The name, the kind and the default of each argument."""
+    told = inspect.signature(call).parameters.values()
+    return [(one.name, one.kind, one.default) for one in told]
 
 
 class TestInterface(unittest.TestCase):
@@ -37,10 +57,18 @@ class TestInterface(unittest.TestCase):
     def test_arguments(self):
         for file, name, places, names in FUNCTIONS:
             thing = getattr(import_module(f"oldways.{file}"), name)
-            told = inspect.signature(thing).parameters.values()
-            wanted = [(place, BY_PLACE, EMPTY) for place in places]
+            pairs = [(place, EMPTY) if isinstance(place, str) else place for place in places]
+            wanted = [(place, BY_PLACE, worth) for place, worth in pairs]
             wanted += [(key, BY_NAME, worth) for key, worth in names.items()]
-            self.assertEqual([(one.name, one.kind, one.default) for one in told], wanted, name)
+            self.assertEqual(arguments(thing), wanted, name)
+
+    def test_methods_stand_in_the_class_itself(self):
+        for file, name, methods, places in METHODS:
+            made = getattr(import_module(f"oldways.{file}"), name)
+            wanted = [(place, BY_PLACE, EMPTY) for place in ["self", *places]]
+            for method in methods:
+                self.assertTrue(inspect.isfunction(vars(made).get(method)), (name, method))
+                self.assertEqual(arguments(vars(made)[method]), wanted, (name, method))
 
 
 if __name__ == "__main__":

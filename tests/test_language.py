@@ -37,6 +37,11 @@ def trees():
         yield path.name, text, ast.parse(text)
 
 
+def file_names():
+    """The names of all files."""
+    return [path.name for path in FILES]
+
+
 def nodes(*kinds):
     """Each node of these kinds, with its file's name."""
     for name, _, tree in trees():
@@ -82,6 +87,17 @@ class TestCode(unittest.TestCase):
             own = {getattr(part, "name", None) for part in tree.body}
             own |= {part.targets[0].id for part in tree.body if isinstance(part, ast.Assign)}
             self.assertLessEqual(set(names), own, name)
+
+    def test_no_two_files_import_from_each_other(self):
+        needs = {}
+        for name, _, tree in trees():
+            parts = [part for part in tree.body if isinstance(part, ast.ImportFrom)]
+            needs[name] = {part.module.split(".")[-1] + ".py" for part in parts} & set(file_names())
+        while needs:
+            free = [name for name, needed in needs.items() if not needed & set(needs)]
+            self.assertTrue(free, needs)
+            for name in free:
+                del needs[name]
 
     def test_nothing_that_is_barred(self):
         for name, node in nodes(*BARRED_NODES):
