@@ -55,6 +55,28 @@ def less(one, other):
     return both(one, _gaps(other, max(ends, default=0)))
 
 
+def lies_in(cell, stretch):
+    """Whether a cell lies in a stretch."""
+    first, many = stretch
+    return first <= cell < first + many
+
+
+def edges(stretches):
+    """The cells with which a stretch begins, or behind which one ends, each once, rising."""
+    return sorted(set([first for first, _ in stretches] + [_end(stretch) for stretch in stretches]))
+
+
+def joined(pieces):
+    """Tuples (stretch, worth), as few as can be, of such in order, none over another one."""
+    runs = []
+    for (first, many), worth in pieces:
+        if runs and runs[-1][1] == first and runs[-1][2] == worth:
+            runs[-1][1] = first + many
+        else:
+            runs.append([first, first + many, worth])
+    return [((first, end - first), worth) for first, end, worth in runs]
+
+
 def _end(stretch):
     """The first cell behind a stretch."""
     first, many = stretch

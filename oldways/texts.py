@@ -22,8 +22,10 @@ def show_deed(deed):
 
 def read_deed(text):
     """The deed of a text, in whatever land; refuses any other thing."""
-    words = text.split(" ") if isinstance(text, str) and text else []
-    parts = parts_of(words[0]) if words else ()
+    if not isinstance(text, str):
+        raise NoText(0)
+    words = text.split(" ")
+    parts = parts_of(words[0])
     if not parts:
         raise NoText(0)
     deed = [words[0]]

@@ -29,6 +29,17 @@ FUNCTIONS = [
     ("book", "Book", ["land", ("told", ())], {"back": ()}),
     ("texts", "show_deed", ["deed"], {}),
     ("texts", "read_deed", ["text"], {}),
+    ("hands", "hand_at", ["book", "cell", "day"], {}),
+    ("hands", "holdings", ["book", "day"], {}),
+    ("hands", "held", ["book", "hand", "day"], {}),
+    ("hands", "chain", ["book", "cell"], {}),
+    ("clock", "step", ["land", "stand", "seen"], {}),
+    ("clock", "leapt", ["land", "stand", "seen"], {"many": 1}),
+    ("pairs", "seen", ["book", "x", "y", "day"], {}),
+    ("pairs", "stand", ["book", "x", "y", "day"], {}),
+    ("pairs", "spans", ["book", "x", "y"], {}),
+    ("pairs", "next_change", ["book", "x", "y", "day"], {}),
+    ("sheets", "Sheet", ["rows"], {}),
 ]
 
 # File, class, method, arguments, all by place or name.
@@ -38,6 +49,8 @@ METHODS = [
     ("book", "Book", ["told", "back", "deeds", "land", "copy"], []),
     ("book", "Book", ["stands"], ["thing"]),
     ("book", "Book", ["merged"], ["other"]),
+    ("sheets", "Sheet", ["rows", "area"], []),
+    ("sheets", "Sheet", ["at"], ["x", "y"]),
 ]
 
 

@@ -99,6 +99,19 @@ class TestCode(unittest.TestCase):
             for name in free:
                 del needs[name]
 
+    def test_no_other_thing_has_the_name_of_an_import_or_a_class(self):
+        for name, _, tree in trees():
+            parts = [part for part in tree.body if isinstance(part, ast.ImportFrom)]
+            names = {alias.name for part in parts for alias in part.names}
+            names |= {part.name for part in tree.body if isinstance(part, ast.ClassDef)}
+            for node in ast.walk(tree):
+                if isinstance(node, ast.arg):
+                    self.assertNotIn(node.arg, names, (name, node.lineno))
+                if isinstance(node, ast.Name) and not isinstance(node.ctx, ast.Load):
+                    self.assertNotIn(node.id, names, (name, node.lineno))
+                if isinstance(node, ast.FunctionDef):
+                    self.assertNotIn(node.name, names, (name, node.lineno))
+
     def test_nothing_that_is_barred(self):
         for name, node in nodes(*BARRED_NODES):
             self.fail(f"{name}, line {getattr(node, 'lineno', '?')}: {type(node).__name__}")
