@@ -2,6 +2,7 @@
 
 from oldways.deeds import is_deed, look_deed
 from oldways.errors import TooMany, Unlike
+from oldways.histories import Histories
 from oldways.land import Land
 from oldways.texts import show_deed
 
@@ -18,12 +19,15 @@ class Book:
         self._land = _like(land)
         self._told = {deed: True for deed in told}
         self._back = {deed: True for deed in back}
+        self._histories = None
 
     def tell(self, deed):
         """Tells a deed: True where other deeds stand than ahead, else False."""
         self._look(deed)
         is_new = deed not in self._told and deed not in self._back
         self._told[deed] = True
+        if is_new:
+            self._histories = None
         return is_new
 
     def take_back(self, deed):
@@ -31,6 +35,8 @@ class Book:
         self._look(deed)
         stood = self.stands(deed)
         self._back[deed] = True
+        if stood:
+            self._histories = None
         return stood
 
     def told(self):
@@ -53,6 +59,12 @@ class Book:
     def land(self):
         """The land that the deeds are of."""
         return _like(self._land)
+
+    def histories(self):
+        """The histories of all pairs by the deeds that stand, kept for as long as these stand."""
+        if self._histories is None:
+            self._histories = Histories(self._land, self.deeds())
+        return self._histories
 
     def merged(self, other):
         """A book of what was told, and taken back, in one of two books or in both."""

@@ -4,9 +4,14 @@ from oldways.errors import NoCell, NoDay
 from oldways.things import is_whole
 
 
+def is_cell(land, thing):
+    """Whether any thing is a cell of the land."""
+    return is_whole(thing) and 0 <= thing < land.cells()
+
+
 def look_cell(land, thing):
     """Refuses any thing that is no cell of the land."""
-    if not is_whole(thing) or not 0 <= thing < land.cells():
+    if not is_cell(land, thing):
         raise NoCell(thing)
 
 

@@ -54,10 +54,12 @@ def _wrong_part(land, thing):
 
 def _is_part(land, part, thing, ahead):
     """Whether any thing is such a part; ahead of it stands a part that is right."""
-    if part == "hand":
-        return is_hand(thing)
     if part == "stretch":
         return is_stretch(thing) and thing[0] + thing[1] <= land.cells()
-    if part == "leave":
-        return isinstance(thing, bool)
-    return is_day(thing) and (part == "day" or ahead <= thing)
+    if part == "day":
+        return is_day(thing)
+    if part == "last":
+        return is_day(thing) and ahead <= thing
+    if part == "hand":
+        return is_hand(thing)
+    return isinstance(thing, bool)

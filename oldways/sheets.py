@@ -1,8 +1,6 @@
 """Sheets: values for some pairs of cells, told in one form."""
 
-from itertools import pairwise
-
-from oldways.stretches import edges, joined, lies_in
+from oldways.stretches import edges, joined, lies_in, pieces_between
 
 
 class Sheet:
@@ -49,10 +47,10 @@ def _formed(boxes):
         for begin in ends[numbers[first]:numbers[first + many]]:
             strips[begin].append((overs, value))
     pieces = []
-    for first, end in pairwise(ends):
-        parts = _parts(strips[first])
+    for piece in pieces_between(ends):
+        parts = _parts(strips[piece[0]])
         if parts:
-            pieces.append(((first, end - first), parts))
+            pieces.append((piece, parts))
     return joined(pieces)
 
 

@@ -4,6 +4,8 @@ All here goes by where stretches begin and end, never cell by cell: a stretch
 may have far more cells than could be counted.
 """
 
+from itertools import pairwise
+
 from oldways.things import is_whole
 
 
@@ -61,9 +63,19 @@ def lies_in(cell, stretch):
     return first <= cell < first + many
 
 
+def meet(one, other):
+    """Whether two stretches share a cell."""
+    return one[0] < _end(other) and other[0] < _end(one)
+
+
 def edges(stretches):
     """The cells with which a stretch begins, or behind which one ends, each once, rising."""
     return sorted(set([first for first, _ in stretches] + [_end(stretch) for stretch in stretches]))
+
+
+def pieces_between(bounds):
+    """The stretches from each of rising cells up to the next one."""
+    return [(first, end - first) for first, end in pairwise(bounds)]
 
 
 def joined(pieces):

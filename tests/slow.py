@@ -68,6 +68,100 @@ def slow_stands(book, x, y, many):
     return stands
 
 
+class Slow:
+    """What is seen of each pair, and how it stands, on each of the first days of a small book."""
+
+    def __init__(self, book, days=40):
+        self.land = book.land()
+        self.days = range(days)
+        self.cells = range(self.land.cells())
+        self.pairs = list(itertools.product(self.cells, repeat=2))
+        self.hands = [[slow_hand(book, cell, day) for cell in self.cells] for day in self.days]
+        self.deeds = book.deeds()
+        self.seen = {pair: [self._seen(*pair, day) for day in self.days] for pair in self.pairs}
+        self.stands = {pair: stands_by(self.land, seen) for pair, seen in self.seen.items()}
+
+    def _seen(self, x, y, day):
+        x_hand, y_hand = self.hands[day][x], self.hands[day][y]
+        about = [deed for deed in self.deeds
+                 if deed[0] != "sale" and lies_in(x, deed[3]) and lies_in(y, deed[4])]
+        uses = [deed for deed in about if deed[0] == "use" and deed[1] <= day <= deed[2]]
+        return (x_hand == y_hand,
+                any(deed[:3] == ("grant", day, y_hand) for deed in about),
+                any(deed[:3] == ("end", day, x_hand) for deed in about),
+                any(not deed[5] for deed in uses), any(deed[5] for deed in uses))
+
+    def ways(self, day):
+        """All pairs that are ways on a day, in order."""
+        return [pair for pair in self.pairs if self.stands[pair][day][0] == "way"]
+
+
+class SlowPair:
+    """One pair on the first days of a small book, by whichever of its grants and uses."""
+
+    def __init__(self, book, x, y, days=40):
+        self.land = book.land()
+        self.days = range(days)
+        self.hands = [(slow_hand(book, x, day), slow_hand(book, y, day)) for day in self.days]
+        deeds = [deed for deed in book.deeds() if deed[0] != "sale"]
+        self.helps = [deed for deed in deeds if deed[0] != "end"]
+        about = [deed for deed in deeds if lies_in(x, deed[3]) and lies_in(y, deed[4])]
+        self.about = [deed for deed in about if deed[0] != "end"]
+        self.ended = [any(deed[:3] == ("end", day, self.hands[day][0]) for deed in about)
+                      for day in self.days]
+
+    def seen(self, day, deeds):
+        """What is seen on a day by these grants and uses about the pair, and all sales and ends."""
+        x_hand, y_hand = self.hands[day]
+        uses = [deed for deed in deeds if deed[0] == "use" and deed[1] <= day <= deed[2]]
+        return (x_hand == y_hand, ("grant", day, y_hand) in [deed[:3] for deed in deeds],
+                self.ended[day], False in [deed[5] for deed in uses], True in [deed[5] for deed in uses])
+
+    def stands(self, deeds):
+        """How it stands on each day by these grants and uses, and all sales and ends."""
+        deeds = [deed for deed in deeds if deed in self.about]
+        return stands_by(self.land, [self.seen(day, deeds) for day in self.days])
+
+
+def stands_by(land, seen, stand=("none", 0)):
+    """How a pair stands on each of the days of which it is told what is seen."""
+    stands = []
+    for one in seen:
+        stand = slow_step(land, stand, one)
+        stands.append(stand)
+    return stands
+
+
+def spans_where(truths):
+    """The spans of the days, from 0 on, on which a truth is told."""
+    spans = []
+    for day, truth in enumerate(truths):
+        if truth and spans and spans[-1][1] == day - 1:
+            spans[-1] = (spans[-1][0], day)
+        elif truth:
+            spans.append((day, day))
+    return spans
+
+
+def runs(worths):
+    """Tuples (stretch, worth) of a dict from cells to worths."""
+    rows = []
+    for cell in sorted(worths):
+        if rows and rows[-1][0] + rows[-1][1] == cell and rows[-1][2] == worths[cell]:
+            rows[-1][1] += 1
+        else:
+            rows.append([cell, 1, worths[cell]])
+    return [((first, many), worth) for first, many, worth in rows]
+
+
+def form_of(values):
+    """The one form of each pair's value, sought cell by cell."""
+    strips = {}
+    for (x, y), value in values.items():
+        strips.setdefault(x, {})[y] = value
+    return runs({x: tuple(runs(strip)) for x, strip in strips.items()})
+
+
 def any_stretch(chance, cells):
     first = chance.randrange(cells)
     return (first, chance.randint(1, cells - first))

@@ -40,6 +40,18 @@ FUNCTIONS = [
     ("pairs", "spans", ["book", "x", "y"], {}),
     ("pairs", "next_change", ["book", "x", "y", "day"], {}),
     ("sheets", "Sheet", ["rows"], {}),
+    ("maps", "ways", ["book", "day"], {}),
+    ("maps", "stands", ["book", "day"], {}),
+    ("maps", "all_spans", ["book"], {}),
+    ("maps", "changes", ["one", "other"], {}),
+    ("maps", "counts", ["book", "day"], {}),
+    ("maps", "quiet", ["book"], {}),
+    ("maps", "parted", ["one", "other"], {}),
+    ("titles", "title", ["book", "x", "y", "day"], {}),
+    ("titles", "needful", ["book", "x", "y", "day"], {}),
+    ("titles", "want", ["book", "x", "y", "day"], {}),
+    ("looker", "is_title", ["book", "x", "y", "day", "thing"], {}),
+    ("looker", "is_want", ["book", "x", "y", "day", "thing"], {}),
 ]
 
 # File, class, method, arguments, all by place or name.

@@ -7,6 +7,7 @@ import unittest
 
 from oldways.sheets import Sheet
 from tests.anything import BIG, DEEP, LISTS, TUPLES
+from tests.slow import form_of
 
 FAR = 10 ** 29
 VALUES = (0, 1, 7, -1, BIG, "", "ann", "a" * 4000, (), (1,), ("way", 3), (((0, 1), "a"), "b"))
@@ -20,25 +21,6 @@ def values_of(boxes):
             assert pair not in values
             values[pair] = value
     return values
-
-
-def runs(worths):
-    """Tuples (stretch, worth) of a dict from cells to worths."""
-    rows = []
-    for cell in sorted(worths):
-        if rows and rows[-1][0] + rows[-1][1] == cell and rows[-1][2] == worths[cell]:
-            rows[-1][1] += 1
-        else:
-            rows.append([cell, 1, worths[cell]])
-    return [((first, many), worth) for first, many, worth in rows]
-
-
-def form_of(values):
-    """The one form of each pair's value, sought cell by cell."""
-    strips = {}
-    for (x, y), value in values.items():
-        strips.setdefault(x, {})[y] = value
-    return runs({x: tuple(runs(strip)) for x, strip in strips.items()})
 
 
 def split(chance, stretch):
