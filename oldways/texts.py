@@ -40,6 +40,17 @@ def read_deed(text):
     return tuple(deed)
 
 
+def read_number(word):
+    """The whole number of a word, None of another word."""
+    if not 1 <= len(word) <= MOST_FIGURES:
+        return None
+    if not all(["0" <= sign <= "9" for sign in word]):
+        return None
+    if word[0] == "0" and word != "0":
+        return None
+    return int(word)
+
+
 def _read_part(part, words, deed):
     """The next part of a deed that is read so far, None where the words don't go on so."""
     word = words[len(deed)] if len(deed) < len(words) else None
@@ -51,7 +62,7 @@ def _read_part(part, words, deed):
         return word if is_hand(word) else None
     if part == "stretch":
         return _read_stretch(word)
-    day = _read_number(word)
+    day = read_number(word)
     # A use's last day stands straight behind its first one.
     if not is_day(day) or (part == "last" and day < deed[-1]):
         return None
@@ -68,19 +79,8 @@ def _read_leave(word):
 def _read_stretch(word):
     """The stretch of a word, None of another word."""
     first_word, _, many_word = word.partition("+")
-    first = _read_number(first_word)
-    many = _read_number(many_word)
+    first = read_number(first_word)
+    many = read_number(many_word)
     if first is None or many is None or many == 0:
         return None
     return first, many
-
-
-def _read_number(word):
-    """The whole number of a word, None of another word."""
-    if not 1 <= len(word) <= MOST_FIGURES:
-        return None
-    if not all(["0" <= sign <= "9" for sign in word]):
-        return None
-    if word[0] == "0" and word != "0":
-        return None
-    return int(word)

@@ -52,6 +52,15 @@ FUNCTIONS = [
     ("titles", "want", ["book", "x", "y", "day"], {}),
     ("looker", "is_title", ["book", "x", "y", "day", "thing"], {}),
     ("looker", "is_want", ["book", "x", "y", "day", "thing"], {}),
+    ("freed", "freed", ["book", "day"], {}),
+    ("freed", "is_freed", ["book", "day", "thing"], {}),
+    ("freed", "free_by", ["book", "hand", "day"], {}),
+    ("kept", "kept", ["book", "froms", "overs", "day"], {"until": EMPTY}),
+    ("kept", "barred", ["book", "froms", "overs", "day"], {"until": EMPTY}),
+    ("roads", "open_cells", ["book", "day"], {}),
+    ("roads", "opens", ["book", "cell"], {"since": EMPTY}),
+    ("roads", "opens_by_use", ["book", "cell"], {"since": EMPTY}),
+    ("desk", "Desk", ["cells", "hand"], {"grow": 20, "lapse": 20, "roads": ()}),
 ]
 
 # File, class, method, arguments, all by place or name.
@@ -63,6 +72,8 @@ METHODS = [
     ("book", "Book", ["merged"], ["other"]),
     ("sheets", "Sheet", ["rows", "area"], []),
     ("sheets", "Sheet", ["at"], ["x", "y"]),
+    ("desk", "Desk", ["say"], ["row"]),
+    ("desk", "Desk", ["book"], []),
 ]
 
 
